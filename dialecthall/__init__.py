@@ -1,0 +1,1 @@
+"""Dialecthall: tables in texts whose signs are not told."""
