@@ -1,7 +1,7 @@
 """Dialects: the seven things by which a text is read."""
 
 from dialecthall.errors import NoDialect
-from dialecthall.signs import is_printable
+from dialecthall.signs import is_printable, once
 
 
 def are_unlike_signs(thing, least, most):
@@ -33,11 +33,7 @@ class Dialect:
         return (self.parts, self.quotes, self.frees, self.twin, self.wide, self.thin, self.stray)
 
     def special(self):
-        found = ""
-        for sign in self.parts + self.quotes + self.frees:
-            if sign not in found:
-                found = found + sign
-        return found
+        return once(self.parts + self.quotes + self.frees)
 
 
 def dialect_of(told):

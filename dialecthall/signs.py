@@ -50,6 +50,15 @@ def is_table(thing):
     return sum([signs_in_row(row) for row in thing]) <= MOST_SIGNS_IN_CELLS
 
 
+# Each sign once, where it comes first.
+def once(text):
+    found = ""
+    for sign in text:
+        if sign not in found:
+            found = found + sign
+    return found
+
+
 def others(some, many):
     free = [sign for sign in LETTERS_AND_FIGURES if sign not in some]
     return "".join(free[:many])

@@ -2,7 +2,7 @@
 
 from dialecthall.dialects import dialect_of
 from dialecthall.signs import LINE
-from dialecthall.states import START
+from dialecthall.states import START, is_live
 
 
 def step_at_beginning(dialect, state, sign):
@@ -82,3 +82,10 @@ class Turn:
         if word == "freed":
             return step_freed(self.dialect, quote, sign)
         return step_at_beginning(self.dialect, state, sign)
+
+    # None where the reader fails, or comes to where no text leads back to row.
+    def live_step(self, state, sign):
+        step = self.step(state, sign)
+        if step[0] == "fault" or not is_live(self.dialect, step[1]):
+            return None
+        return step

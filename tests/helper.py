@@ -1,5 +1,7 @@
 """What several tests need: things of all kinds, and a second way to read, written from the document alone."""
 
+import functools
+
 LINE = "\n"
 PRINTABLE = "".join(chr(number) for number in range(32, 127) if number != 37)
 SIGNS = LINE + PRINTABLE
@@ -8,6 +10,14 @@ NO_SIGNS = "".join(chr(number) for number in range(128) if chr(number) not in SI
 TRUTHS = [(twin, wide, thin, stray)
           for twin in (False, True) for wide in (False, True)
           for thin in (False, True) for stray in (False, True)]
+
+# Parts, quotes and frees: signs of one role each, then signs of several, and blanks that have a role.
+ROLES = [(",", "", ""), (",", "'", ""), (",", "", "^"), (",", "'", "^"),
+         ("'", "'", ""), (",'", "'", ""), (",", "'", "'"), (",", "", ","), (",;", "'", ","), (",", "'", ",^"),
+         ("a", "a", "a"), (",'", "'", "'"),
+         (" ", "'", ""), (", ", "'", "^"), (",", " ", ""), (",", "' ", "^"), (",", "'", " "), (" ", " ", " "),
+         (",", "'\"", "'"), (",", "'\"", ""), (",\"", "'\"", "\"")]
+SMALL = [told + truths for told in ROLES for truths in TRUTHS]
 
 
 def things_but_texts():
@@ -22,6 +32,19 @@ def things_but_lists():
 
 def things_but_truths():
     return [thing for thing in things_but_texts() if not isinstance(thing, bool)] + ["", "a", "True", "False", "1"]
+
+
+def things_but_tables():
+    """Things of other kinds, and lists that are no tables by one row, cell or sign."""
+    things = things_but_lists()
+    things += [[thing] for thing in things_but_lists()] + [[["a"], thing, ["b"]] for thing in things_but_lists()]
+    things += [[[thing]] for thing in things_but_texts()] + [[["a", thing], ["b"]] for thing in things_but_texts()]
+    things += [[["a" + sign]] for sign in NO_SIGNS] + [[["a", "b"], ["c", sign]] for sign in NO_SIGNS]
+    things += [[[]], [["a"], []], [[], ["a"]], [["a"]] * 61, [["a"] * 21], [["a"], [""] * 21], [["a" * 401]],
+               [["a" * 200], ["b", "c" * 200]], [["a" * 20] * 20, [" "]], [["a" * 2001]], [[["a"]]]]
+    ring = []
+    ring.append(ring)
+    return things + [ring]
 
 
 def frees_nothing_ahead(told, state, sign):
@@ -39,6 +62,7 @@ def frees_nothing_ahead(told, state, sign):
     return [step for holds, step in rules if holds][0]
 
 
+@functools.lru_cache(maxsize=None)
 def model_step(told, state, sign):
     """The step of point 22, as a list of rules of which the first one that holds counts."""
     parts, quotes, frees, twin, wide, thin, stray = told
@@ -98,6 +122,11 @@ def model_far(told, text):
     return (len(kinds), len(table), word or "cut")
 
 
+def model_table(told, text):
+    """The table as which a text is read, None where it fails."""
+    return model_walk(told, text)[1] if model_far(told, text) is None else None
+
+
 def model_states(told):
     states = [("row", ""), ("cell", ""), ("plain", ""), ("behind", ""), ("freed", "")]
     for quote in told[1]:
@@ -111,6 +140,7 @@ def signs_that_tell(told):
     return "".join(dict.fromkeys(signs + [sign for sign in "abcdefghij" if sign not in signs][0]))
 
 
+@functools.lru_cache(maxsize=None)
 def model_length(told, state):
     """How many signs lead from a state to row at the least, found by trying all; None where none do."""
     seen, edge, length = {state}, [state], 0
@@ -132,3 +162,74 @@ def all_texts(signs, most):
         longest = [text + sign for text in longest for sign in signs]
         texts += longest
     return texts
+
+
+def model_tokens(table):
+    """(token, row, cell) for each token of a table."""
+    told = []
+    for row, cells in enumerate(table):
+        for cell, signs in enumerate(cells):
+            told += [(("put", sign), row, cell) for sign in signs]
+            told.append((("part", "") if cell < len(cells) - 1 else ("end", ""), row, cell))
+    return told
+
+
+def skipped_on(told, lengths, signs):
+    """The lengths of shortest texts to each state, where more signs may come that put out nothing."""
+    lengths, before = dict(lengths), None
+    while lengths != before:
+        before = dict(lengths)
+        for state, length in before.items():
+            for sign in signs:
+                kind, behind = model_step(told, state, sign)
+                if kind == "skip" and model_length(told, behind) is not None:
+                    lengths[behind] = min(lengths.get(behind, length + 1), length + 1)
+    return lengths
+
+
+def model_writing(told, table):
+    """("text", how long the shortest text of a table is), or ("none", row, cell), token by token."""
+    signs = dict.fromkeys(signs_that_tell(told) + "".join("".join(row) for row in table))
+    lengths = {("row", ""): 0}
+    for token, row, cell in model_tokens(table):
+        further = {}
+        for state, length in skipped_on(told, lengths, signs).items():
+            for sign in signs:
+                kind, behind = model_step(told, state, sign)
+                if (kind, sign if kind == "put" else "") == token and model_length(told, behind) is not None:
+                    further[behind] = min(further.get(behind, length + 1), length + 1)
+        if not further:
+            return ("none", row, cell)
+        lengths = further
+    return ("text", lengths[("row", "")])
+
+
+def texts_that_go_on(told, signs, most):
+    """(text, state, table) for each text of these signs, of so many of them at most, at which no step fails."""
+    edge = [("", ("row", ""), [[""]])]
+    for length in range(most + 1):
+        yield from ((text, state, rows[:-1]) for text, state, rows in edge)
+        farther = []
+        for text, state, rows in edge:
+            for sign in signs:
+                kind, behind = model_step(told, state, sign)
+                if kind != "fault":
+                    farther.append((text + sign, behind, rows_behind(rows, kind, sign)))
+        edge = farther
+
+
+def rows_behind(rows, kind, sign):
+    if kind == "end":
+        return rows + [[""]]
+    if kind == "part":
+        return rows[:-1] + [rows[-1] + [""]]
+    return rows[:-1] + [rows[-1][:-1] + [rows[-1][-1] + (sign if kind == "put" else "")]]
+
+
+def lengths_of_tables(told, most):
+    """Of each table that some text of at most so many signs is read as: how long the shortest one is."""
+    lengths = {}
+    for text, state, table in texts_that_go_on(told, signs_that_tell(told), most):
+        if state == ("row", ""):
+            lengths.setdefault(tuple(tuple(row) for row in table), len(text))
+    return lengths

@@ -120,6 +120,63 @@ class Code(unittest.TestCase):
                 self.assertIn(node.attr, METHODS + ["__init__"], told)
             self.assertTrue(not node.attr.startswith("_") or node.attr == "__init__", told)
 
+    def test_locals_are_not_called_like_imports_and_classes(self):
+        for path in FILES:
+            nodes = nodes_of(path)
+            taken = {name.name for node in nodes if isinstance(node, ast.ImportFrom) for name in node.names}
+            taken |= {node.name for node in nodes if isinstance(node, ast.ClassDef)}
+            for node in nodes:
+                if isinstance(node, ast.Name) and not isinstance(node.ctx, ast.Load):
+                    self.assertNotIn(node.id, taken, f"{path.name}:{node.lineno}")
+                if isinstance(node, ast.arg):
+                    self.assertNotIn(node.arg, taken, f"{path.name}:{node.lineno}")
+
+    def test_no_name_is_a_method_and_a_value(self):
+        methods = {row.name for told, node in self.each(ast.ClassDef) for row in node.body
+                   if isinstance(row, ast.FunctionDef)}
+        values = {node.attr for told, node in self.each(ast.Attribute) if isinstance(node.ctx, ast.Store)}
+        self.assertEqual(methods & values, set())
+        self.assertEqual(values & (PYTHONS_OWN - {"count", "index", "title", "find", "get", "join", "lower", "upper",
+                                                  "split", "strip", "copy", "add"}), set())
+
+    def test_methods_are_called_where_they_stand(self):
+        methods = {row.name for told, node in self.each(ast.ClassDef) for row in node.body
+                   if isinstance(row, ast.FunctionDef)}
+        for path in FILES:
+            nodes = nodes_of(path)
+            called = {id(node.func) for node in nodes if isinstance(node, ast.Call)}
+            for node in nodes:
+                if isinstance(node, ast.Attribute) and node.attr in methods | set(METHODS) - {"count", "index"}:
+                    self.assertIn(id(node), called, f"{path.name}:{node.lineno}")
+
+    def test_names_are_drawn_from_where_they_are_made_and_never_round_about(self):
+        made, drawn = {}, {}
+        for path in FILES:
+            tree = ast.parse(path.read_text(encoding="utf-8"))
+            made[path.stem] = {row.name for row in tree.body if isinstance(row, (ast.FunctionDef, ast.ClassDef))}
+            made[path.stem] |= {name.id for row in tree.body if isinstance(row, ast.Assign) for name in row.targets}
+            drawn[path.stem] = [row for row in tree.body if isinstance(row, ast.ImportFrom)]
+        for stem, rows in drawn.items():
+            for row in rows:
+                for name in row.names:
+                    self.assertIn(name.name, made[row.module.split(".")[1]], stem)
+        left = {stem: {row.module.split(".")[1] for row in rows} for stem, rows in drawn.items()}
+        while left:
+            free = [stem for stem in left if not left[stem] & set(left)]
+            self.assertNotEqual(free, [], sorted(left))
+            left = {stem: left[stem] for stem in left if stem not in free}
+
+    def test_sets_are_not_kept(self):
+        for path in FILES:
+            nodes = nodes_of(path)
+            near = [node.args[0] for node in nodes if isinstance(node, ast.Call) and isinstance(node.func, ast.Name)
+                    and node.func.id in ("sorted", "len") and node.args]
+            near += [side for node in nodes if isinstance(node, ast.Compare) for side in [node.left] + node.comparators]
+            for node in nodes:
+                self.assertNotIsInstance(node, ast.Set, path.name)
+                if isinstance(node, ast.Call) and isinstance(node.func, ast.Name) and node.func.id == "set":
+                    self.assertTrue(any(node is side for side in near), f"{path.name}:{node.lineno}")
+
     def test_is_stands_beside_none_and_truths(self):
         for told, node in self.each(ast.Compare):
             sides = [node.left] + node.comparators
