@@ -1,7 +1,7 @@
 """Whether a dialect writes every table, or a smallest row that it does not."""
 
+from dialecthall.pairs import signs_for
 from dialecthall.search import search, text_to
-from dialecthall.signs import LINE, once, others
 from dialecthall.states import START
 from dialecthall.turns import Turn
 
@@ -12,9 +12,7 @@ class Cells:
     def __init__(self, dialect, kind):
         self.turn = Turn(dialect)
         self.kind = kind
-        signs = once(dialect.special() + LINE + " ")
-        # All signs but these step as any other one does, so one of them is enough.
-        self.signs = signs + others(signs, 1)
+        self.signs = signs_for([dialect])
 
     def with_skips(self, states):
         found = list(states)
@@ -51,10 +49,11 @@ def lacking_cell(dialect, kind):
 
 
 def full(dialect):
-    last = lacking_cell(dialect, "end")
     parted = lacking_cell(dialect, "part")
-    if last is None and parted is None:
+    # Where a part may stand an end may, too: a cell that lacks an end lacks a part.
+    if parted is None:
         return None
-    if parted is None or (last is not None and len(last) <= len(parted)):
+    last = lacking_cell(dialect, "end")
+    if last is not None and len(last) == len(parted):
         return [[last]]
     return [[parted, ""]]

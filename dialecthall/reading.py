@@ -6,11 +6,15 @@ from dialecthall.states import START
 from dialecthall.turns import Turn
 
 
+def check_text(thing):
+    if not is_text(thing):
+        raise NoText("a text has at most 2000 signs, none but LINE and the printable ones of ASCII, without number 37")
+
+
 # Told is (kinds, state, word): the kinds of all steps that did not fail, the state behind the last of these, and the
 # word of the step that failed, None where none did.
 def walk(dialect, text):
-    if not is_text(text):
-        raise NoText("a text has at most 2000 signs, none but LINE and the printable ones of ASCII, without number 37")
+    check_text(text)
     turn = Turn(dialect)
     kinds = []
     state = START
@@ -63,3 +67,11 @@ def table_of(text, kinds):
 
 def furthest(dialect, text):
     return end_of(walk(dialect, text))
+
+
+# The table as which a text is read, None where it fails: all failings are alike.
+def reading_of(dialect, text):
+    walked = walk(dialect, text)
+    if end_of(walked) is not None:
+        return None
+    return table_of(text, walked[0])

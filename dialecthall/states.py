@@ -30,3 +30,12 @@ def ending(dialect, state):
         # Any sign but LINE may be freed by every dialect.
         return "a" + state[1] + LINE
     return LINE
+
+
+# Whatever is handed in may be asked about.
+def is_live_state(dialect, thing):
+    if not isinstance(thing, tuple) or len(thing) != 2:
+        return False
+    if not isinstance(thing[0], str) or not isinstance(thing[1], str):
+        return False
+    return thing in states_of(dialect) and is_live(dialect, thing)

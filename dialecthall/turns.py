@@ -83,8 +83,10 @@ class Turn:
             return step_freed(self.dialect, quote, sign)
         return step_at_beginning(self.dialect, state, sign)
 
-    # None where the reader fails, or comes to where no text leads back to row.
+    # None where the reader fails, or comes to where no text leads back to row; so the state None is for one that has.
     def live_step(self, state, sign):
+        if state is None:
+            return None
         step = self.step(state, sign)
         if step[0] == "fault" or not is_live(self.dialect, step[1]):
             return None

@@ -15,15 +15,11 @@ class Writer:
         self.tokens = tokens
         self.usual = dialect.special() + LINE + " "
 
-    # Of the signs that are none of the usual ones only the one to be put next can put out what comes next.
-    def signs_at(self, count):
-        if count == len(self.tokens):
-            return self.usual
-        return once(self.usual + self.tokens[count][1])
-
+    # Where all tokens are put out, the search is over; so one comes next here. Of the signs that are none of the usual
+    # ones only its own can put it out.
     def leads(self, place):
         found = []
-        for sign in self.signs_at(place[1]):
+        for sign in once(self.usual + self.tokens[place[1]][1]):
             step = self.turn.live_step(place[0], sign)
             if step is not None:
                 count = count_behind(self.tokens, place[1], step[0], sign)

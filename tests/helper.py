@@ -233,3 +233,62 @@ def lengths_of_tables(told, most):
         if state == ("row", ""):
             lengths.setdefault(tuple(tuple(row) for row in table), len(text))
     return lengths
+
+
+def some_told(chance, signs=",'^ab "):
+    """A dialect by chance, told as a tuple; its signs have any roles."""
+    texts = ["".join(chance.sample(signs, chance.randint(least, min(most, len(signs)))))
+             for least, most in ((1, 3), (0, 2), (0, 2))]
+    return tuple(texts) + chance.choice(TRUTHS)
+
+
+def model_fall(told, text, even):
+    """(at, row, word) of point 52, None where the text is taken."""
+    kinds, table, state, word = model_walk(told, text)
+    ends = [at for at, kind in enumerate(kinds) if kind == "end"]
+    for row, at in enumerate(ends):
+        if even and len(table[row]) != len(table[0]):
+            return (at, row, "uneven")
+    return model_far(told, text)
+
+
+def signs_of_two(one, other):
+    """The signs of both that have a role, LINE, the blank and another one."""
+    signs = "".join(one[:3] + other[:3]) + LINE + " "
+    return "".join(dict.fromkeys(signs + [sign for sign in "abcdefghijklmnopqrst" if sign not in signs][0]))
+
+
+def model_pairs(one, other):
+    """All pairs of live states to which some text of any signs leads."""
+    found = [(("row", ""), ("row", ""))]
+    for first, second in found:
+        for sign in SIGNS:
+            steps = model_step(one, first, sign), model_step(other, second, sign)
+            pair = steps[0][1], steps[1][1]
+            if "fault" not in (steps[0][0], steps[1][0]) and pair not in found:
+                if model_length(one, pair[0]) is not None and model_length(other, pair[1]) is not None:
+                    found.append(pair)
+    return found
+
+
+def read_on(told, reader, sign):
+    """A reader is (state, rows), the last of these not ended; None is one that has failed."""
+    if reader is None:
+        return None
+    kind, behind = model_step(told, reader[0], sign)
+    return None if kind == "fault" else (behind, rows_behind(reader[1], kind, sign))
+
+
+def text_read_unlike(one, other, signs, most):
+    """A text of these signs, at most so many, that both read unlike, found by trying them all; else None."""
+    edge = [("", (("row", ""), [[""]]), (("row", ""), [[""]]))]
+    for length in range(most + 1):
+        for text, first, second in edge:
+            tables = [reader[1] if reader and reader[0] == ("row", "") else None for reader in (first, second)]
+            if tables[0] != tables[1]:
+                return text
+        if length < most:
+            edge = [(text + sign, read_on(one, first, sign), read_on(other, second, sign))
+                    for text, first, second in edge for sign in signs]
+            edge = [place for place in edge if place[1:] != (None, None)]
+    return None

@@ -58,8 +58,8 @@ class Full(unittest.TestCase):
     def test_dialects_that_write_every_table(self):
         for dialect in (Dialect(",", "'", twin=True, wide=True), Dialect(",", "", "^", wide=True),
                         Dialect(",", "'", "^", wide=True), Dialect(",;|", "'\"", "^\\", True, True, True, True),
-                        Dialect(",", "'", "^", wide=True, thin=True), Dialect(" ", "'", twin=True, wide=True, thin=True),
-                        Dialect(",", "'", ",", wide=True), Dialect(",", "'", "'", wide=True)):
+                        Dialect(",", "'", "^", wide=True, thin=True), Dialect(",", "'", ",", wide=True),
+                        Dialect(" ", "'", twin=True, wide=True, thin=True), Dialect(",", "'", "'", wide=True)):
             self.assertIsNone(full(dialect), dialect.told())
             self.check(dialect.told())
 

@@ -102,7 +102,8 @@ class Ordinary(Writing):
         self.written(Dialect(",", "'", "'"), [["'", "a'"]], 7)
 
     def test_never_a_part(self):
-        for dialect in (Dialect("a", "a", "a"), Dialect(",", "", ","), Dialect(",;", "", ";,"), Dialect(",", "'", ",'")):
+        for dialect in (Dialect("a", "a", "a"), Dialect(",", "", ","), Dialect(",;", "", ";,"),
+                        Dialect(",", "'", ",'")):
             self.lacks(dialect, [["", ""]], 0, 0)
             self.lacks(dialect, [["b"], ["c", "d"]], 1, 0)
         self.written(Dialect(",", "'", ","), [["", "b"]], 5)
