@@ -175,7 +175,8 @@ class IsAlike(unittest.TestCase):
     def test_other_things_in_the_place_of_a_pair(self):
         things = things_but_texts() + ["", "ab", Anything(), [ROW, ROW], [list(ROW), list(ROW)],
                                        (list(ROW), list(ROW)), (ROW,), (ROW, ROW, ROW), (), ROW, ((ROW, ROW),),
-                                       ((ROW, ROW), (ROW, ROW)), ("row", "row"), (ROW, "row"), (("row",), ROW), (ROW, ("row", "", ""))]
+                                       ((ROW, ROW), (ROW, ROW)), ("row", "row"), (ROW, "row"), (("row",), ROW),
+                                       (ROW, ("row", "", ""))]
         for thing in things:
             self.no(COMMA, COMMA, SHOWN + [thing])
             self.no(COMMA, COMMA, [thing] + SHOWN)
