@@ -6,7 +6,7 @@ from dialecthall.errors import NoWriting
 from dialecthall.full import full
 from dialecthall.signs import is_table
 from dialecthall.writing import shortest
-from tests.helper import LINE, SIGNS, SMALL, TRUTHS, model_writing, signs_that_tell
+from tests.helper import LINE, SIGNS, SMALL, TRUTHS, model_states, model_step, model_writing, signs_that_tell
 
 
 def cells_of(signs, many):
@@ -29,6 +29,30 @@ def smaller_rows(signs, row):
     return rows + [row for cells in range(1, len(row)) for row in rows_of(signs, many, cells)]
 
 
+def kinds_behind(told, states):
+    """The states to which signs that put out nothing lead on, and the kinds of all steps from them."""
+    states = set(states)
+    for again in range(len(model_states(told))):
+        steps = [model_step(told, state, sign) for state in states for sign in signs_that_tell(told)]
+        states |= {behind for kind, behind in steps if kind == "skip"}
+    return states, {kind for kind, behind in steps}
+
+
+def writes_cells_of_any_length(told):
+    """Whether behind each cell, whatever its length, a part and an end can be written: by all sets of states."""
+    found = [frozenset([("row", "")])]
+    for some in found:
+        states, kinds = kinds_behind(told, some)
+        if not {"part", "end"} <= kinds:
+            return False
+        for sign in signs_that_tell(told):
+            steps = [model_step(told, state, sign) for state in states]
+            behind = frozenset(state for kind, state in steps if kind == "put")
+            if behind not in found:
+                found.append(behind)
+    return True
+
+
 class Full(unittest.TestCase):
     def can_be_written(self, told, row):
         return model_writing(told, [row])[0] == "text"
@@ -36,8 +60,9 @@ class Full(unittest.TestCase):
     def check(self, told):
         table = full(Dialect(*told))
         signs = signs_that_tell(told)
+        self.assertEqual(table is None, writes_cells_of_any_length(told), (told, table))
         if table is None:
-            for row in smaller_rows(signs, ["a" * 2, ""]):
+            for row in smaller_rows(signs, ["aaa"]):
                 self.assertTrue(self.can_be_written(told, row), (told, row))
             return None
         self.assertIsInstance(table, list)

@@ -144,13 +144,13 @@ class WhatNoTextGetsPast(Writing):
 
 class SmallTables(Writing):
     def test_against_all_short_texts(self):
-        for place, told in enumerate(SMALL):
+        for told in SMALL:
             most = 5 if len(signs_that_tell(told)) <= 5 else 4
             lengths = lengths_of_tables(told, most)
             dialect = Dialect(*told)
-            for table in sorted(lengths)[place % 7::7]:
+            for table in sorted(lengths):
                 self.written(dialect, [list(row) for row in table], lengths[table])
-            for table in small_tables(signs_that_tell(told))[place % 5::5]:
+            for table in small_tables(signs_that_tell(told)):
                 if tuple(tuple(row) for row in table) not in lengths:
                     self.none_so_short(dialect, table, most)
 
@@ -164,9 +164,8 @@ class SmallTables(Writing):
             self.assertEqual(read(dialect, text), table)
 
     def test_against_a_search_token_by_token(self):
-        for place, told in enumerate(SMALL):
-            tables = small_tables(signs_that_tell(told))
-            for table in tables[place % 3::3]:
+        for told in SMALL:
+            for table in small_tables(signs_that_tell(told)):
                 self.as_the_model(told, table)
 
     def test_random_tables(self):
