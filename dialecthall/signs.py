@@ -10,6 +10,13 @@ MOST_SIGNS_IN_CELLS = 400
 LETTERS_AND_FIGURES = "abcdefghijklmnopqrstuvwxyzABCDEFGHIJKLMNOPQRSTUVWXYZ0123456789"
 
 
+# A truth is an int to Python, but no whole number.
+def is_whole(thing, least, most):
+    if not isinstance(thing, int) or isinstance(thing, bool):
+        return False
+    return thing >= least and thing <= most
+
+
 def is_printable(sign):
     number = ord(sign)
     return number >= 32 and number <= 126 and number != 37

@@ -1,34 +1,28 @@
 """Writing: a shortest text that a dialect reads as a table."""
 
 from dialecthall.errors import NoWriting
+from dialecthall.marks import FIRST_MARK, Marker
 from dialecthall.search import search, text_to
 from dialecthall.signs import LINE, once
-from dialecthall.states import START
-from dialecthall.tokens import END, PART, count_behind, tokens_of
-from dialecthall.turns import Turn
+from dialecthall.tokens import END, PART, tokens_of
 
 
-# A place is (state, count): the state behind some text, and how many of the tokens it has put out.
+# A place is a mark that is not None.
 class Writer:
     def __init__(self, dialect, tokens):
-        self.turn = Turn(dialect)
+        self.marker = Marker(dialect, tokens)
         self.tokens = tokens
         self.usual = dialect.special() + LINE + " "
 
     # Where all tokens are put out, the search is over; so one comes next here. Of the signs that are none of the usual
     # ones only its own can put it out.
     def leads(self, place):
-        found = []
-        for sign in once(self.usual + self.tokens[place[1]][1]):
-            step = self.turn.live_step(place[0], sign)
-            if step is not None:
-                count = count_behind(self.tokens, place[1], step[0], sign)
-                if count is not None:
-                    found.append((sign, (step[1], count)))
-        return found
+        signs = once(self.usual + self.tokens[place[1]][1])
+        found = [(sign, self.marker.mark_behind(place, sign)) for sign in signs]
+        return [lead for lead in found if lead[1] is not None]
 
     def is_good(self, place):
-        return place == (START, len(self.tokens))
+        return self.marker.has_read_all(place)
 
 
 def cell_at(tokens, count):
@@ -45,7 +39,7 @@ def cell_at(tokens, count):
 
 def shortest(dialect, table):
     tokens = tokens_of(table)
-    found = search((START, 0), Writer(dialect, tokens))
+    found = search(FIRST_MARK, Writer(dialect, tokens))
     came = found[1]
     if found[0] is None:
         lacking = cell_at(tokens, max([place[1] for place in came]))

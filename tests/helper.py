@@ -2,6 +2,8 @@
 
 import functools
 
+from dialecthall.errors import Broken, DialectError, NoName, NoWriting, TooMany
+
 LINE = "\n"
 PRINTABLE = "".join(chr(number) for number in range(32, 127) if number != 37)
 SIGNS = LINE + PRINTABLE
@@ -18,6 +20,27 @@ ROLES = [(",", "", ""), (",", "'", ""), (",", "", "^"), (",", "'", "^"),
          (" ", "'", ""), (", ", "'", "^"), (",", " ", ""), (",", "' ", "^"), (",", "'", " "), (" ", " ", " "),
          (",", "'\"", "'"), (",", "'\"", ""), (",\"", "'\"", "\"")]
 SMALL = [told + truths for told in ROLES for truths in TRUTHS]
+
+
+FIELDS = {NoName: ("name",), TooMany: ("most",), Broken: ("row", "place", "word"), NoWriting: ("row", "cell")}
+
+
+class Anything:
+    """A thing that says that it is like any other one."""
+    def __eq__(self, other):
+        return True
+
+    def __hash__(self):
+        return 0
+
+
+def refusal(call, *handed, **named):
+    """The refusal's class and behind it the fields that the document tells of it; None where nothing is refused."""
+    try:
+        call(*handed, **named)
+    except DialectError as error:
+        return (error.__class__,) + tuple(getattr(error, field) for field in FIELDS.get(error.__class__, ()))
+    return None
 
 
 def things_but_texts():
@@ -242,6 +265,16 @@ def some_told(chance, signs=",'^ab "):
     return tuple(texts) + chance.choice(TRUTHS)
 
 
+def turned(told, place):
+    """The same dialect with one of its truths the other way."""
+    return told[:place] + (not told[place],) + told[place + 1:]
+
+
+def about(told):
+    """The same dialect with its signs in another order."""
+    return (told[0][::-1], told[1][::-1], told[2][::-1]) + told[3:]
+
+
 def model_fall(told, text, even):
     """(at, row, word) of point 52, None where the text is taken."""
     kinds, table, state, word = model_walk(told, text)
@@ -271,6 +304,22 @@ def model_pairs(one, other):
     return found
 
 
+def model_alike(one, other, pairs):
+    """Point 63 for a list of pairs of live states, by the steps of the model."""
+    for first, second in pairs:
+        if (first == ("row", "")) != (second == ("row", "")):
+            return False
+        for sign in signs_of_two(one, other):
+            steps = [model_step(one, first, sign), model_step(other, second, sign)]
+            ends = [kind == "fault" or model_length(told, behind) is None
+                    for told, (kind, behind) in zip((one, other), steps)]
+            if ends == [True, True]:
+                continue
+            if True in ends or steps[0][0] != steps[1][0] or (steps[0][1], steps[1][1]) not in pairs:
+                return False
+    return (("row", ""), ("row", "")) in pairs
+
+
 def read_on(told, reader, sign):
     """A reader is (state, rows), the last of these not ended; None is one that has failed."""
     if reader is None:
@@ -291,4 +340,61 @@ def text_read_unlike(one, other, signs, most):
             edge = [(text + sign, read_on(one, first, sign), read_on(other, second, sign))
                     for text, first, second in edge for sign in signs]
             edge = [place for place in edge if place[1:] != (None, None)]
+    return None
+
+
+def signs_of_sole(told, table, others):
+    """The signs that count by point 72."""
+    texts = list(told[:3]) + [text for other in others for text in other[:3]] + [LINE, " "]
+    return "".join(dict.fromkeys("".join(texts) + "".join("".join(row) for row in table)))
+
+
+def model_mark(told, tokens, mark, sign):
+    """The mark (state, count) of a reader behind a sign, None for a lost one."""
+    if mark is None:
+        return None
+    kind, behind = model_step(told, mark[0], sign)
+    if kind == "fault" or model_length(told, behind) is None:
+        return None
+    if kind == "skip":
+        return (behind, mark[1])
+    wanted = tokens[mark[1]:mark[1] + 1]
+    return (behind, mark[1] + 1) if wanted == [(kind, sign if kind == "put" else "")] else None
+
+
+def model_leads(told, table, others, place):
+    """The places to which a place leads on, each once."""
+    tokens = [token for token, row, cell in model_tokens(table)]
+    found = []
+    for sign in signs_of_sole(told, table, others):
+        mark = model_mark(told, tokens, place[:2], sign)
+        if mark is not None:
+            marks = tuple(model_mark(other, tokens, one, sign) for other, one in zip(others, place[2]))
+            found.append(mark + (marks,))
+    return list(dict.fromkeys(found))
+
+
+def model_good(table, place):
+    read = (("row", ""), len(model_tokens(table)))
+    return place[:2] == read and read not in place[2]
+
+
+def model_sole(told, table, others):
+    """(how many signs a shortest sole text has, None where there is none; the places that shorter texts come to)."""
+    first = (("row", ""), 0, ((("row", ""), 0),) * len(others))
+    places, edge, length = {}, {first: True}, 0
+    while edge:
+        if any(model_good(table, place) for place in edge):
+            return length, list(places)
+        places.update(edge)
+        edge = {lead: True for place in edge for lead in model_leads(told, table, others, place) if lead not in places}
+        length += 1
+    return None, list(places)
+
+
+def sole_text(told, table, others, signs, most):
+    """A sole text of these signs, at most so many, found by trying them all; else None."""
+    for text, state, rows in texts_that_go_on(told, signs, most):
+        if state == ("row", "") and rows == table and all(model_table(other, text) != table for other in others):
+            return text
     return None

@@ -4,39 +4,14 @@ import unittest
 
 from dialecthall.dialects import Dialect
 from dialecthall.pairs import is_alike, is_parted, signs_for
-from tests.helper import (LINE, NO_SIGNS, SMALL, all_texts, model_length, model_pairs, model_states, model_step,
-                          model_table, signs_of_two, some_told, things_but_lists, things_but_texts)
+from tests.helper import (LINE, NO_SIGNS, SMALL, Anything, all_texts, model_alike, model_length, model_pairs,
+                          model_states, model_table, signs_of_two, some_told, things_but_lists, things_but_texts)
 
 ROW, CELL, PLAIN, BEHIND, FREED = ("row", ""), ("cell", ""), ("plain", ""), ("behind", ""), ("freed", "")
 COMMA = Dialect(",")
 SEMI = Dialect(";")
 QUOTING = Dialect(",", "'")
 SHOWN = [(ROW, ROW), (CELL, CELL), (PLAIN, PLAIN)]
-
-
-def model_alike(one, other, pairs):
-    """Point 63 for a list of pairs of live states, by the steps of the model."""
-    for first, second in pairs:
-        if (first == ROW) != (second == ROW):
-            return False
-        for sign in signs_of_two(one, other):
-            steps = [model_step(one, first, sign), model_step(other, second, sign)]
-            ends = [kind == "fault" or model_length(told, behind) is None
-                    for told, (kind, behind) in zip((one, other), steps)]
-            if ends == [True, True]:
-                continue
-            if True in ends or steps[0][0] != steps[1][0] or (steps[0][1], steps[1][1]) not in pairs:
-                return False
-    return (ROW, ROW) in pairs
-
-
-class Anything:
-    """A thing that says that it is like any other one."""
-    def __eq__(self, other):
-        return True
-
-    def __hash__(self):
-        return 0
 
 
 class SignsFor(unittest.TestCase):

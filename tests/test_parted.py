@@ -5,20 +5,10 @@ from dialecthall.dialects import Dialect
 from dialecthall.pairs import is_alike, is_parted
 from dialecthall.parted import compare
 from dialecthall.signs import is_text
-from tests.helper import (LINE, ROLES, SIGNS, SMALL, TRUTHS, model_length, model_pairs, model_table, signs_of_two,
-                          some_told, text_read_unlike)
+from tests.helper import (LINE, ROLES, SIGNS, SMALL, TRUTHS, about, model_length, model_pairs, model_table,
+                          signs_of_two, some_told, text_read_unlike, turned)
 
 NONE = (False, False, False, False)
-
-
-def turned(told, place):
-    """The same dialect with one of its truths the other way."""
-    return told[:place] + (not told[place],) + told[place + 1:]
-
-
-def about(told):
-    """The same dialect with its signs in another order."""
-    return (told[0][::-1], told[1][::-1], told[2][::-1]) + told[3:]
 
 
 class Comparing(unittest.TestCase):
