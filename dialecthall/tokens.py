@@ -17,9 +17,13 @@ def tokens_of_row(row):
     return tokens
 
 
-def tokens_of(table):
-    if not is_table(table):
+def check_table(thing):
+    if not is_table(thing):
         raise NoTable("a table has at most 60 rows, of 1 to 20 cells each, and 400 signs in all of them together")
+
+
+def tokens_of(table):
+    check_table(table)
     tokens = []
     for row in table:
         tokens.extend(tokens_of_row(row))

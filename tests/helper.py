@@ -2,6 +2,7 @@
 
 import functools
 
+from dialecthall.dialects import Dialect
 from dialecthall.errors import Broken, DialectError, NoName, NoWriting, TooMany
 
 LINE = "\n"
@@ -265,6 +266,10 @@ def some_told(chance, signs=",'^ab "):
     return tuple(texts) + chance.choice(TRUTHS)
 
 
+def made(all_told):
+    return [Dialect(*told) for told in all_told]
+
+
 def turned(told, place):
     """The same dialect with one of its truths the other way."""
     return told[:place] + (not told[place],) + told[place + 1:]
@@ -318,6 +323,31 @@ def model_alike(one, other, pairs):
             if True in ends or steps[0][0] != steps[1][0] or (steps[0][1], steps[1][1]) not in pairs:
                 return False
     return (("row", ""), ("row", "")) in pairs
+
+
+@functools.lru_cache(maxsize=None)
+def are_alike(one, other):
+    return model_alike(one, other, model_pairs(one, other))
+
+
+def model_groups(all_told):
+    """Each place beside all that are alike to it; sorted by the first one."""
+    found = []
+    for place in range(len(all_told)):
+        group = [other for other in range(len(all_told)) if are_alike(all_told[place], all_told[other])]
+        if group not in found:
+            found.append(group)
+    return found
+
+
+def lists_of_told(chance, many):
+    """Lists of none to twelve dialects, some of them alike."""
+    for again in range(many):
+        signs = chance.choice([",'^ a", ",'", ",;", "ab "])
+        some = [some_told(chance, signs) for told in range(chance.randrange(1, 7))]
+        some += [about(told) for told in some] + [turned(told, chance.randrange(3, 7)) for told in some] + some
+        chance.shuffle(some)
+        yield some[:again % 13]
 
 
 def read_on(told, reader, sign):

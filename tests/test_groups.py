@@ -1,4 +1,3 @@
-import functools
 import random
 import unittest
 
@@ -7,30 +6,12 @@ from dialecthall.errors import TooMany
 from dialecthall.groups import groups, telling
 from dialecthall.pairs import is_parted
 from dialecthall.signs import is_text
-from tests.helper import SMALL, TRUTHS, about, model_alike, model_pairs, model_table, refusal, some_told, turned
+from tests.helper import (SMALL, TRUTHS, about, are_alike, lists_of_told, made, model_groups, model_table, refusal,
+                          turned)
 
 NONE = (False, False, False, False)
 COMMA = (",", "", "") + NONE
 QUOTING = (",", "'", "") + NONE
-
-
-def made(all_told):
-    return [Dialect(*told) for told in all_told]
-
-
-@functools.lru_cache(maxsize=None)
-def are_alike(one, other):
-    return model_alike(one, other, model_pairs(one, other))
-
-
-def model_groups(all_told):
-    """Each place beside all that are alike to it; sorted by the first one."""
-    found = []
-    for place in range(len(all_told)):
-        group = [other for other in range(len(all_told)) if are_alike(all_told[place], all_told[other])]
-        if group not in found:
-            found.append(group)
-    return found
 
 
 def untold(all_told, texts):
@@ -38,16 +19,6 @@ def untold(all_told, texts):
     tables = [[model_table(told, text) for text in texts] for told in all_told]
     return [(one, other) for one in range(len(all_told)) for other in range(one)
             if tables[one] == tables[other] and not are_alike(all_told[one], all_told[other])]
-
-
-def lists_of_told(chance, many):
-    """Lists of none to twelve dialects, some of them alike."""
-    for again in range(many):
-        signs = chance.choice([",'^ a", ",'", ",;", "ab "])
-        some = [some_told(chance, signs) for told in range(chance.randrange(1, 7))]
-        some += [about(told) for told in some] + [turned(told, chance.randrange(3, 7)) for told in some] + some
-        chance.shuffle(some)
-        yield some[:again % 13]
 
 
 class Groups(unittest.TestCase):

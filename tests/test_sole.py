@@ -8,8 +8,8 @@ from dialecthall.papers import is_none, is_sole
 from dialecthall.reading import furthest, read
 from dialecthall.sole import sole
 from dialecthall.writing import shortest
-from tests.helper import (LINE, ROLES, SIGNS, SMALL, TRUTHS, about, model_good, model_leads, model_sole, model_table,
-                          model_writing, refusal, signs_of_sole, sole_text, some_told, things_but_tables,
+from tests.helper import (LINE, ROLES, SIGNS, SMALL, TRUTHS, about, made, model_good, model_leads, model_sole,
+                          model_table, model_writing, refusal, signs_of_sole, sole_text, some_told, things_but_tables,
                           things_but_texts, turned)
 
 NONE = (False, False, False, False)
@@ -23,10 +23,6 @@ THIN = Dialect(",", thin=True)
 LARGE = ("'", "'x", "^a", True, True, True, False)
 OF_LARGE = [("'", "x^", "^'", True, True, False, False), ("^", "'a", "^x", True, True, True, True),
             ("'", "x'", "^'", True, True, True, True)]
-
-
-def made(all_told):
-    return [Dialect(*told) for told in all_told]
 
 
 def small_tables(told):
