@@ -4,8 +4,6 @@ from dialecthall.states import START
 from dialecthall.tokens import count_behind
 from dialecthall.turns import Turn
 
-FIRST_MARK = (START, 0)
-
 
 # A mark is (state, count): the state behind some text, and how many of the tokens it has put out; None, where it has
 # put out anything else, or can't come to row any more, stays None.

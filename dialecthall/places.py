@@ -1,12 +1,13 @@
 """Places: how far a dialect and some others have come with a table, behind one text."""
 
-from dialecthall.marks import FIRST_MARK, Marker
+from dialecthall.marks import Marker
 from dialecthall.signs import LINE, once
+from dialecthall.states import START
 from dialecthall.tokens import tokens_of
 
 
 def first_place(others):
-    return FIRST_MARK + (tuple([FIRST_MARK for other in others]),)
+    return (START, 0, tuple([(START, 0) for other in others]))
 
 
 # Any other sign can but be put by the dialect, and no token of the table asks for that.

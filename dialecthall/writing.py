@@ -1,9 +1,10 @@
 """Writing: a shortest text that a dialect reads as a table."""
 
 from dialecthall.errors import NoWriting
-from dialecthall.marks import FIRST_MARK, Marker
+from dialecthall.marks import Marker
 from dialecthall.search import search, text_to
 from dialecthall.signs import LINE, once
+from dialecthall.states import START
 from dialecthall.tokens import END, PART, tokens_of
 
 
@@ -39,7 +40,7 @@ def cell_at(tokens, count):
 
 def shortest(dialect, table):
     tokens = tokens_of(table)
-    found = search(FIRST_MARK, Writer(dialect, tokens))
+    found = search((START, 0), Writer(dialect, tokens))
     came = found[1]
     if found[0] is None:
         lacking = cell_at(tokens, max([place[1] for place in came]))

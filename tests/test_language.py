@@ -102,6 +102,35 @@ class Code(unittest.TestCase):
             self.assertEqual(len(node.generators), 1, told)
             self.assertLessEqual(len(node.generators[0].ifs), 1, told)
 
+    def test_the_top_of_a_file(self):
+        for path in FILES:
+            above = []
+            for row in ast.parse(path.read_text(encoding="utf-8")).body:
+                told = f"{path.name}:{row.lineno}"
+                self.assertIsInstance(row, (ast.Expr, ast.ImportFrom, ast.FunctionDef, ast.ClassDef, ast.Assign), told)
+                if isinstance(row, ast.FunctionDef):
+                    above.append(row.name)
+                if isinstance(row, ast.Assign):
+                    for node in ast.walk(row.value):
+                        self.assertIsInstance(node, (ast.Constant, ast.Tuple, ast.List, ast.Dict, ast.Name, ast.Load),
+                                              told)
+                        if isinstance(node, ast.Name):
+                            self.assertIn(node.id, above, told)
+                    for node in list(ast.walk(row.value))[1:]:
+                        self.assertNotIsInstance(node, (ast.List, ast.Dict), told)
+
+    def test_each_name_once_at_the_top(self):
+        for path in FILES:
+            names = []
+            for row in ast.parse(path.read_text(encoding="utf-8")).body:
+                if isinstance(row, (ast.FunctionDef, ast.ClassDef)):
+                    names.append(row.name)
+                if isinstance(row, ast.Assign):
+                    names += [name.id for name in row.targets]
+                if isinstance(row, ast.ImportFrom):
+                    names += [name.asname or name.name for name in row.names]
+            self.assertEqual(sorted(set(names)), sorted(names), path.name)
+
     def test_values(self):
         for told, node in self.each(ast.Constant):
             self.assertNotIsInstance(node.value, (float, complex, bytes), told)
