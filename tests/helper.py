@@ -422,9 +422,26 @@ def model_sole(told, table, others):
     return None, list(places)
 
 
+def begins(table, rows):
+    """Whether these rows, of which the last one and its last cell may go on, can still come to be this table."""
+    ended, row = rows[:-1], rows[-1]
+    if ended != table[:len(ended)]:
+        return False
+    wanted = (table + [[""]])[len(ended)]
+    if len(row) > len(wanted) or row[:-1] != wanted[:len(row) - 1]:
+        return False
+    return wanted[len(row) - 1].startswith(row[-1])
+
+
 def sole_text(told, table, others, signs, most):
-    """A sole text of these signs, at most so many, found by trying them all; else None."""
-    for text, state, rows in texts_that_go_on(told, signs, most):
-        if state == ("row", "") and rows == table and all(model_table(other, text) != table for other in others):
-            return text
+    """A sole text of these signs, at most so many, found by trying all that the dialect may read so; else None."""
+    edge = [("", ("row", ""), [[""]])]
+    for length in range(most + 1):
+        for text, state, rows in edge:
+            if state == ("row", "") and rows[:-1] == table and table not in [model_table(one, text) for one in others]:
+                return text
+        if length < most:
+            farther = [(text + sign, read_on(told, (state, rows), sign))
+                       for text, state, rows in edge for sign in signs]
+            edge = [(text,) + reader for text, reader in farther if reader and begins(table, reader[1])]
     return None

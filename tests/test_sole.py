@@ -78,12 +78,12 @@ class Sole(unittest.TestCase):
         self.is_open(told, table, others, enough // 2)
         if enough > 1:
             self.is_open(told, table, others, 1)
+        self.without_shorter(told, table, others, length)
         return answer[0]
 
-    def without_shorter(self, told, table, others, most):
-        """As above, and no shorter text of the signs that count is sole, up to so many signs."""
-        if self.check(told, table, others) == "text":
-            most = min(most, model_sole(told, table, others)[0] - 1)
+    def without_shorter(self, told, table, others, length):
+        """No shorter text of the signs that count is sole; where none is told, none of six signs or fewer."""
+        most = 6 if length is None else min(length - 1, 8)
         if most >= 0:
             found = sole_text(told, table, others, signs_of_sole(told, table, others), most)
             self.assertIsNone(found, (told, table, others))
@@ -131,7 +131,7 @@ class Ordinary(Sole):
         self.assertEqual(len(sole(Dialect(*told), [["a"]], made([blank]), 4000)[1]), 3)
         self.assertEqual(len(sole(Dialect(*told), [["a"]], made([quote]), 4000)[1]), 4)
         self.assertEqual(len(sole(Dialect(*told), [["a"]], made([blank, quote]), 4000)[1]), 5)
-        self.without_shorter(told, [["a"]], [blank, quote], 5)
+        self.check(told, [["a"]], [blank, quote])
 
     def test_one_that_is_alike(self):
         for told in SMALL[::5]:
@@ -164,17 +164,17 @@ class Ordinary(Sole):
 
 class AgainstTheModel(Sole):
     def test_each_truth_turned(self):
-        for number, told in enumerate(SMALL):
-            tables = small_tables(told)
-            for place in (3, 4, 5, 6):
-                self.check(told, tables[(number + place * 3) % len(tables)], [turned(told, place)])
+        for told in SMALL:
+            for table in small_tables(told):
+                for place in (3, 4, 5, 6):
+                    self.check(told, table, [turned(told, place)])
 
-    def test_no_shorter_text(self):
+    def test_one_to_three_others(self):
         for number, told in enumerate(SMALL):
             tables = small_tables(told)
             others = [turned(told, 3 + number % 4), SMALL[(number * 31) % len(SMALL)]]
             others.append(turned(told, 3 + number // 4 % 4))
-            self.without_shorter(told, tables[number % len(tables)], others[:1 + number % 3], 3)
+            self.check(told, tables[number % len(tables)], others[:1 + number % 3])
 
     def test_signs_of_several_roles(self):
         for number, told in enumerate(ROLES):
@@ -201,7 +201,6 @@ class AgainstTheModel(Sole):
         self.assertEqual(self.check((",", "", "") + NONE, [["z"]], [(",", "z", "") + NONE]), "text")
         self.assertEqual(self.check((",", "", "^") + NONE, [["z"]], [(",", "z", "") + NONE]), "text")
         self.assertEqual(self.check((",", "", "^") + NONE, [["z"]], [(",", "", "^z") + NONE]), "text")
-        self.without_shorter((",", "", "^") + NONE, [["z"]], [(",", "", "^z") + NONE], 3)
 
     def test_the_shortest_of_all_signs(self):
         for told, table, others in (((",", "'", "") + NONE, [["a"]], [(",", "", "") + NONE]),
